@@ -6,10 +6,8 @@ import (
 
 	"cartouche/api"
 	"cartouche/limit"
+	"cartouche/pass"
 )
-
-// The white bytes: 9, 10, 12, 13 and 32. (11 is none of them.)
-const white = "\t\n\f\r "
 
 // Trim a text: it is without the white bytes at both its ends then.
 func Trim(s string) (string, api.Errno) {
@@ -42,7 +40,7 @@ func Name(encoding int) (string, api.Errno) {
 }
 
 func trim(s string) string {
-	return strings.Trim(s, white)
+	return strings.Trim(s, pass.White)
 }
 
 // fold goes by bytes, not by signs: bytes that are no letters stay, be they UTF-8 or not.
